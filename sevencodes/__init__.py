@@ -1,0 +1,1 @@
+"""Lists of whole numbers as bytes, in seven codes, read strictly."""
