@@ -1,47 +1,58 @@
 """The calls. Each gives back one list of whole numbers; a refusal is its number alone."""
 
+from sevencodes.checks import check_code, check_numbers, check_reading
 from sevencodes.faults import Fault
-from sevencodes.measures import all_in_range
 from sevencodes.reader import Reader
 from sevencodes.reading import read_list
-from sevencodes.writing import write_list
+from sevencodes.refusals import Refusal
+from sevencodes.writing import best_of, sizes_of, write_list
 
-LAST_CODE = 6
-MOST_NUMBERS = 500
-MOST_BYTES = 6000
+NO_FAULT = 0
 
-REFUSED_CODE = -1
-REFUSED_COUNT = -2
-REFUSED_BYTES = -3
-REFUSED_RANGE = -4
 
-# A fault is refused with this less the fault's kind.
-REFUSED_FAULT = -10
+def counted(row):
+    """Give how many the row has, then the row."""
+    return [len(row)] + row
 
 
 def encode(code, numbers):
     """Write the numbers in the code: how many bytes, then each byte."""
-    if code < 0 or code > LAST_CODE:
-        return [REFUSED_CODE]
-    if len(numbers) > MOST_NUMBERS:
-        return [REFUSED_COUNT]
-    if not all_in_range(numbers):
-        return [REFUSED_RANGE]
-    out = write_list(code, numbers)
-    return [len(out)] + out
+    try:
+        check_code(code)
+        check_numbers(numbers)
+    except Refusal as e:
+        return [e.number]
+    return counted(write_list(code, numbers))
 
 
 def decode(code, n, data):
     """Read n numbers in the code from the front of the bytes: how many bytes were read, then the numbers."""
-    if code < 0 or code > LAST_CODE:
-        return [REFUSED_CODE]
-    if n < 0 or n > MOST_NUMBERS:
-        return [REFUSED_COUNT]
-    if len(data) > MOST_BYTES:
-        return [REFUSED_BYTES]
     reader = Reader(data)
     try:
+        check_reading(code, n, data)
         numbers = read_list(reader, code, n)
-    except Fault as e:
-        return [REFUSED_FAULT - e.kind]
+    except Refusal as e:
+        return [e.number]
     return [reader.place] + numbers
+
+
+def fault(code, n, data):
+    """Read as decode does, and tell the first fault: its kind and its place, or 0 alone if there is none."""
+    try:
+        check_reading(code, n, data)
+        read_list(Reader(data), code, n)
+    except Fault as e:
+        return [e.kind, e.place]
+    except Refusal as e:
+        return [e.number]
+    return [NO_FAULT]
+
+
+def sizes(numbers):
+    """Tell the best code for the numbers, then how many bytes they have in each code."""
+    try:
+        check_numbers(numbers)
+    except Refusal as e:
+        return [e.number]
+    lengths = sizes_of(numbers)
+    return [best_of(lengths)] + lengths

@@ -1,10 +1,13 @@
 """The faults that reading bytes can meet, one class for each kind."""
 
+from sevencodes.refusals import Refusal
 
-class Fault(Exception):
+
+class Fault(Refusal):
     """Why reading stopped: the kind of the first fault, and its place."""
 
     def __init__(self, kind, place):
+        Refusal.__init__(self, -10 - kind)
         self.kind = kind
         self.place = place
 

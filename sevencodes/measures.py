@@ -1,5 +1,8 @@
 """What the writer and the reader both ask of numbers: range, width, stretches."""
 
+LAST_CODE = 6
+MOST_NUMBERS = 500
+
 LEAST_NUMBER = -9223372036854775808
 GREATEST_NUMBER = 9223372036854775807
 

@@ -1,6 +1,6 @@
 """Writing a list of numbers in each of the seven codes."""
 
-from sevencodes.measures import PART_LENGTH, RUN_LENGTH, power_of_two, stretches_of, width_of
+from sevencodes.measures import LAST_CODE, PART_LENGTH, RUN_LENGTH, power_of_two, stretches_of, width_of
 
 
 def write_short(number):
@@ -151,3 +151,13 @@ def write_list(code, numbers):
     if code == 5:
         return write_step_blocks(numbers)
     return write_entries(numbers)
+
+
+def sizes_of(numbers):
+    """Give how many bytes the numbers have in each code, from code 0 on."""
+    return [len(write_list(code, numbers)) for code in range(LAST_CODE + 1)]
+
+
+def best_of(lengths):
+    """Give the code that has the fewest bytes of these, from code 0 on; the first of several."""
+    return lengths.index(min(lengths))

@@ -178,3 +178,40 @@ LISTS = [
     scattered(3, 1, 1), scattered(50, 1, 2), scattered(200, 3, 3), scattered(500, 100, 4),
     scattered(100, 10 ** 6, 5), scattered(77, 2 ** 40, 6), scattered(500, GREATEST, 7),
 ]
+
+# What may stand behind a list, and is not looked at.
+TAILS = [[], [0], [1], [128], [255], [0] * 20, [255] * 20, [128, 0], [16, 0, 3, 1, 14, 0]]
+
+WRONG_CODES = [-1, 7, 8, 255, -7, 10 ** 18, -10 ** 18]
+BEYOND = [GREATEST + 1, LEAST - 1, GREATEST + 2, 2 ** 64, -2 ** 64, 10 ** 20, -10 ** 20]
+
+
+def touched(self, *args, **kwargs):
+    raise AssertionError("what was handed in was changed")
+
+
+class Sealed(list):
+    """A list that can't be changed, not for a while either."""
+
+    append = clear = extend = insert = pop = remove = reverse = sort = touched
+    __setitem__ = __delitem__ = __iadd__ = __imul__ = touched
+
+
+def whole_numbers(answer):
+    """Tell whether the answer is one plain list of whole numbers, none of them True or False."""
+    return type(answer) is list and all(type(number) is int for number in answer)
+
+
+def same_again(test, call, *handed):
+    """Look at a call by itself: it changes nothing that it gets, and answers the same when it is called again."""
+    before = [list(thing) if isinstance(thing, list) else thing for thing in handed]
+    answer = call(*handed)
+    test.assertEqual(list(handed), before)
+    test.assertTrue(whole_numbers(answer))
+    kept = list(answer)
+    answer.append(-99)
+    answer[0] = -99
+    sealed = [Sealed(thing) if isinstance(thing, list) else thing for thing in handed]
+    test.assertEqual(call(*sealed), kept)
+    test.assertEqual(call(*handed), kept)
+    test.assertEqual(list(handed), before)

@@ -4,10 +4,8 @@ import contextlib
 import io
 import unittest
 
-from pieces import CODES, LISTS, VECTORS
+from pieces import CODES, LISTS, TAILS, VECTORS, WRONG_CODES
 from sevencodes.codes import decode, encode
-
-TAILS = [[], [0], [1], [128], [255], [0] * 20, [255] * 20, [128, 0], [16, 0, 3, 1, 14, 0]]
 
 
 class Read(unittest.TestCase):
@@ -69,7 +67,7 @@ class Read(unittest.TestCase):
 
 class Refused(unittest.TestCase):
     def test_codes(self):
-        for code in [-1, 7, 8, 255, -7, 10 ** 18, -10 ** 18]:
+        for code in WRONG_CODES:
             with self.subTest(code=code):
                 self.assertEqual(decode(code, 1, [2]), [-1])
                 self.assertEqual(decode(code, 0, []), [-1])

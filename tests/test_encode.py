@@ -2,10 +2,8 @@
 
 import unittest
 
-from pieces import CODES, GREATEST, LEAST, LISTS, VECTORS
+from pieces import BEYOND, CODES, GREATEST, LISTS, VECTORS, WRONG_CODES
 from sevencodes.codes import encode
-
-BEYOND = [GREATEST + 1, LEAST - 1, GREATEST + 2, 2 ** 64, -2 ** 64, 10 ** 20, -10 ** 20]
 
 
 class Written(unittest.TestCase):
@@ -39,7 +37,7 @@ class Written(unittest.TestCase):
 
 class Refused(unittest.TestCase):
     def test_codes(self):
-        for code in [-1, 7, 8, 255, -7, 10 ** 18, -10 ** 18]:
+        for code in WRONG_CODES:
             with self.subTest(code=code):
                 self.assertEqual(encode(code, [1, 2]), [-1])
                 self.assertEqual(encode(code, []), [-1])

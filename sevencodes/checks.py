@@ -1,0 +1,38 @@
+"""What the calls look at before they write or read: each check refuses by its own error."""
+
+from sevencodes.measures import LAST_CODE, MOST_NUMBERS, all_in_range
+from sevencodes.refusals import BytesRefusal, CodeRefusal, CountRefusal, RangeRefusal
+
+MOST_BYTES = 6000
+
+
+def check_code(code):
+    """Refuse what is no code's number."""
+    if code < 0 or code > LAST_CODE:
+        raise CodeRefusal()
+
+
+def check_count(n):
+    """Refuse what is no list's length."""
+    if n < 0 or n > MOST_NUMBERS:
+        raise CountRefusal()
+
+
+def check_numbers(numbers):
+    """Refuse numbers that are no list."""
+    check_count(len(numbers))
+    if not all_in_range(numbers):
+        raise RangeRefusal()
+
+
+def check_bytes(data):
+    """Refuse more bytes than are read."""
+    if len(data) > MOST_BYTES:
+        raise BytesRefusal()
+
+
+def check_reading(code, n, data):
+    """Refuse to read n numbers in the code from the bytes."""
+    check_code(code)
+    check_count(n)
+    check_bytes(data)
