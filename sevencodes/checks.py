@@ -1,6 +1,6 @@
 """What the calls look at before they write or read: each check refuses by its own error."""
 
-from sevencodes.measures import LAST_CODE, MOST_NUMBERS, all_in_range
+from sevencodes.measures import BEST_CODE, LAST_CODE, MOST_NUMBERS, all_in_range
 from sevencodes.refusals import BytesRefusal, CodeRefusal, CountRefusal, RangeRefusal
 
 MOST_BYTES = 6000
@@ -10,6 +10,12 @@ def check_code(code):
     """Refuse what is no code's number."""
     if code < 0 or code > LAST_CODE:
         raise CodeRefusal()
+
+
+def check_parcel_code(code):
+    """Refuse what is neither a code's number nor asks for the best code."""
+    if code != BEST_CODE:
+        check_code(code)
 
 
 def check_count(n):

@@ -1,7 +1,8 @@
 """The calls. Each gives back one list of whole numbers; a refusal is its number alone."""
 
-from sevencodes.checks import check_code, check_numbers, check_reading
+from sevencodes.checks import check_code, check_numbers, check_parcel_code, check_reading
 from sevencodes.faults import Fault
+from sevencodes.parcels import read_parcel, write_parcel
 from sevencodes.reader import Reader
 from sevencodes.reading import read_list
 from sevencodes.refusals import Refusal
@@ -56,3 +57,22 @@ def sizes(numbers):
         return [e.number]
     lengths = sizes_of(numbers)
     return [best_of(lengths)] + lengths
+
+
+def pack(code, numbers):
+    """Write the parcel of the numbers in the code, or in the best one for them: how many bytes, then each byte."""
+    try:
+        check_parcel_code(code)
+        check_numbers(numbers)
+    except Refusal as e:
+        return [e.number]
+    return counted(write_parcel(code, numbers))
+
+
+def unpack(data):
+    """Read the bytes as a parcel: how many numbers, then the numbers."""
+    try:
+        numbers = read_parcel(data)
+    except Refusal as e:
+        return [e.number]
+    return counted(numbers)

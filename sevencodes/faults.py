@@ -73,3 +73,17 @@ class EntryFault(Fault):
 
     def __init__(self, place):
         Fault.__init__(self, 9, place)
+
+
+class LeftFault(Fault):
+    """Bytes are left behind a parcel."""
+
+    def __init__(self, place):
+        Fault.__init__(self, 10, place)
+
+
+class TagFault(Fault):
+    """A parcel's code is none of the seven."""
+
+    def __init__(self, place):
+        Fault.__init__(self, 11, place)

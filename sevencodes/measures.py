@@ -1,6 +1,10 @@
 """What the writer and the reader both ask of numbers: range, width, stretches."""
 
 LAST_CODE = 6
+
+# Asks for a parcel in whichever code is the best for its numbers.
+BEST_CODE = 7
+
 MOST_NUMBERS = 500
 
 LEAST_NUMBER = -9223372036854775808

@@ -1,6 +1,6 @@
 """Bytes that are no written list: rows (code, n, bytes, the kind of the first fault, its place)."""
 
-from pieces import GREATEST, LEAST, SPAN, block, short, signed
+from pieces import GREATEST, LEAST, PARCELS, SPAN, block, parcel, short, signed
 
 CUT, SHORT, RANGE, COUNT, STRETCH, WIDTH, PADDING, LEAST_FAULT, ENTRY, LEFT, TAG = range(1, 12)
 
@@ -520,3 +520,75 @@ NO_FAULTS = [
 
 FAULTS = (EXAMPLES + SHORT_NUMBERS + PLAIN + RUNS + PACK + MIXED + STEPS + STEP_BLOCKS + ENTRIES
           + LATER + LATER_PARTS + TOGETHER + LONG)
+
+# From here on rows of bytes that are no parcel: (bytes, the kind of the first fault, its place).
+LENGTHS = [
+    ([], CUT, 0),
+    ([128], CUT, 1),
+    ([255] * 9, CUT, 9),
+    ([128, 0], SHORT, 0),
+    ([129, 0], SHORT, 0),
+    ([244, 131, 0], SHORT, 0),
+    ([255] * 10, SHORT, 0),
+    ([255] * 10 + [0], SHORT, 0),
+    ([255] * 9 + [128, 0], SHORT, 0),
+    ([245, 3], COUNT, 0),
+    ([246, 3], COUNT, 0),
+    ([128, 4], COUNT, 0),
+    ([255, 127], COUNT, 0),
+    ([128, 128, 1], COUNT, 0),
+    ([255] * 9 + [127], COUNT, 0),
+    ([128] * 9 + [1], COUNT, 0),
+]
+
+TAGS = [
+    ([0], CUT, 1),
+    ([1], CUT, 1),
+    ([127], CUT, 1),
+    ([128, 1], CUT, 2),
+    ([244, 3], CUT, 2),
+    ([0, 7], TAG, 1),
+    ([0, 8], TAG, 1),
+    ([0, 128], TAG, 1),
+    ([0, 255], TAG, 1),
+    ([1, 7], TAG, 1),
+    ([1, 255], TAG, 1),
+    ([1, 7, 14], TAG, 1),
+    ([128, 1, 7], TAG, 2),
+    ([128, 1, 255], TAG, 2),
+    ([244, 3, 7], TAG, 2),
+    ([244, 3, 255], TAG, 2),
+]
+
+# Behind the parcels of no number and of some; a list's own length and tag are in the place.
+LEFT_BEHIND = [([0, code, byte], LEFT, 2) for code in range(7) for byte in [0, 7, 9, 128, 255]]
+LEFT_BEHIND += [(data + tail, LEFT, len(data)) for code, numbers, data in PARCELS for tail in [[0], [255, 1], [128]]]
+
+PARCELS_TOGETHER = [
+    ([128, 0, 7], SHORT, 0),
+    ([128, 0, 0, 9], SHORT, 0),
+    ([245, 3, 7], COUNT, 0),
+    ([245, 3, 0, 128, 0], COUNT, 0),
+    ([255] * 9 + [127, 255], COUNT, 0),
+    ([0, 7, 9], TAG, 1),
+    ([1, 7, 128, 0], TAG, 1),
+    ([128, 1, 9, 128, 0], TAG, 2),
+    ([1, 0, 128, 0, 9], SHORT, 2),
+    ([1, 0] + ABOVE + [9], RANGE, 2),
+    ([1, 1, 2, 14, 9], COUNT, 2),
+    ([2, 1, 1, 14, 1, 14, 9], STRETCH, 5),
+    ([2, 2, 0, 1, 3, 9], LEAST_FAULT, 2),
+    ([2, 2, 0, 1, 5, 9], PADDING, 4),
+    ([2, 2, 0, 2, 1, 9], WIDTH, 3),
+    ([2, 6, 2, 0, 0, 0, 9], ENTRY, 5),
+    ([2, 0, 14], CUT, 3),
+]
+
+
+def within(code, n, data, kind, place):
+    """The row of a parcel with this fault in its list; the length and the tag stand before all places."""
+    whole = parcel(code, n, data)
+    return whole, kind, place + len(whole) - len(data)
+
+
+PARCEL_FAULTS = LENGTHS + TAGS + LEFT_BEHIND + PARCELS_TOGETHER + [within(*row) for row in FAULTS]

@@ -183,7 +183,17 @@ LISTS = [
 TAILS = [[], [0], [1], [128], [255], [0] * 20, [255] * 20, [128, 0], [16, 0, 3, 1, 14, 0]]
 
 WRONG_CODES = [-1, 7, 8, 255, -7, 10 ** 18, -10 ** 18]
+WRONG_PARCEL_CODES = [-1, 8, 9, 255, -7, -8, 10 ** 18, -10 ** 18]
 BEYOND = [GREATEST + 1, LEAST - 1, GREATEST + 2, 2 ** 64, -2 ** 64, 10 ** 20, -10 ** 20]
+
+
+def parcel(code, n, data):
+    """The parcel of n numbers that are these bytes in the code."""
+    return short(n) + [code] + data
+
+
+# Rows (code, numbers, bytes): each list has these bytes as its parcel, and these bytes are read as the list.
+PARCELS = [(code, numbers, parcel(code, len(numbers), data)) for code, numbers, data in VECTORS]
 
 
 def touched(self, *args, **kwargs):
