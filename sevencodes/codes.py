@@ -76,3 +76,24 @@ def unpack(data):
     except Refusal as e:
         return [e.number]
     return counted(numbers)
+
+
+def unfault(data):
+    """Read as unpack does, and tell the first fault: its kind and its place, or 0 alone if there is none."""
+    try:
+        read_parcel(data)
+    except Fault as e:
+        return [e.kind, e.place]
+    except Refusal as e:
+        return [e.number]
+    return [NO_FAULT]
+
+
+def recode(code, data):
+    """Read the bytes as a parcel, and write its numbers as one in the code, or in the best one for them."""
+    try:
+        check_parcel_code(code)
+        numbers = read_parcel(data)
+    except Refusal as e:
+        return [e.number]
+    return counted(write_parcel(code, numbers))
