@@ -1,7 +1,7 @@
 """What the calls look at before they write or read: each check refuses by its own error."""
 
 from sevencodes.measures import BEST_CODE, LAST_CODE, MOST_NUMBERS, all_in_range
-from sevencodes.refusals import BytesRefusal, CodeRefusal, CountRefusal, RangeRefusal
+from sevencodes.refusals import BytesRefusal, CodeRefusal, CountRefusal, PlaceRefusal, RangeRefusal
 
 MOST_BYTES = 6000
 
@@ -35,6 +35,12 @@ def check_bytes(data):
     """Refuse more bytes than are read."""
     if len(data) > MOST_BYTES:
         raise BytesRefusal()
+
+
+def check_part(start, count, numbers):
+    """Refuse to take count numbers, behind start others, where there are not so many."""
+    if start < 0 or count < 0 or start + count > len(numbers):
+        raise PlaceRefusal()
 
 
 def check_reading(code, n, data):

@@ -1,6 +1,6 @@
 """The calls. Each gives back one list of whole numbers; a refusal is its number alone."""
 
-from sevencodes.checks import check_code, check_numbers, check_parcel_code, check_reading
+from sevencodes.checks import check_code, check_count, check_numbers, check_parcel_code, check_part, check_reading
 from sevencodes.faults import Fault
 from sevencodes.parcels import read_parcel, write_parcel
 from sevencodes.reader import Reader
@@ -97,3 +97,26 @@ def recode(code, data):
     except Refusal as e:
         return [e.number]
     return counted(write_parcel(code, numbers))
+
+
+def join(code, first, second):
+    """Read two parcels, and write the first's numbers and behind them the second's as one parcel in the code."""
+    try:
+        check_parcel_code(code)
+        front = read_parcel(first)
+        back = read_parcel(second)
+        check_count(len(front) + len(back))
+    except Refusal as e:
+        return [e.number]
+    return counted(write_parcel(code, front + back))
+
+
+def part(code, start, count, data):
+    """Read a parcel, and write count of its numbers, those behind the first start ones, as a parcel in the code."""
+    try:
+        check_parcel_code(code)
+        numbers = read_parcel(data)
+        check_part(start, count, numbers)
+    except Refusal as e:
+        return [e.number]
+    return counted(write_parcel(code, numbers[start:start + count]))

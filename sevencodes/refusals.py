@@ -34,3 +34,10 @@ class RangeRefusal(Refusal):
 
     def __init__(self):
         Refusal.__init__(self, -4)
+
+
+class PlaceRefusal(Refusal):
+    """What is asked for lies beyond the numbers of a parcel."""
+
+    def __init__(self):
+        Refusal.__init__(self, -5)
