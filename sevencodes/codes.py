@@ -9,6 +9,7 @@ from sevencodes.refusals import Refusal
 from sevencodes.writing import best_of, sizes_of, write_list
 
 NO_FAULT = 0
+FOUND = 0
 
 
 def counted(row):
@@ -120,3 +121,13 @@ def part(code, start, count, data):
     except Refusal as e:
         return [e.number]
     return counted(write_parcel(code, numbers[start:start + count]))
+
+
+def at(k, data):
+    """Read the bytes as a parcel, and tell 0, then the number that has k numbers before it."""
+    try:
+        numbers = read_parcel(data)
+        check_part(k, 1, numbers)
+    except Refusal as e:
+        return [e.number]
+    return [FOUND, numbers[k]]
